@@ -1,0 +1,1 @@
+"""Steps commuted: two, three, through rows."""
