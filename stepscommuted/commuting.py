@@ -1,4 +1,4 @@
-"""When two steps commute, and to what; why they don't; and a step brought through a row."""
+"""When two steps commute, and to what; and why they don't."""
 
 from stepscommuted.steps import Hunk
 from stepscommuted.steps import Moved
@@ -69,16 +69,3 @@ def why_not(first, second):
     if isinstance(first, Swap) and isinstance(second, Swap):
         return SWAPS_TOUCH
     return ELSE_NOT
-
-
-def brought_ahead(row, place):
-    """Answer the row with its step at the place brought ahead as far as it comes, and its place then."""
-    row = list(row)
-    while place > 0:
-        pair = commuted(row[place - 1], row[place])
-        if pair is None:
-            break
-        row[place - 1] = pair[0]
-        row[place] = pair[1]
-        place -= 1
-    return (row, place)

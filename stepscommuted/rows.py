@@ -1,11 +1,16 @@
 """The calls on one tree and its row of steps, as lists of whole numbers."""
 
-from stepscommuted.commuting import brought_ahead
-from stepscommuted.commuting import commuted
 from stepscommuted.commuting import why_not
 from stepscommuted.reading import read_step
 from stepscommuted.steps import row_applied
 from stepscommuted.steps import row_numbers
+from stepscommuted.steps import row_turned
+from stepscommuted.through import brought_ahead
+from stepscommuted.through import brought_behind
+from stepscommuted.through import commuted_at
+from stepscommuted.through import needed_places
+from stepscommuted.through import rest_brought_ahead
+from stepscommuted.through import three_commuted
 from stepscommuted.trees import read_tree
 from stepscommuted.trees import tree_numbers
 
@@ -55,11 +60,11 @@ def outcome(held):
 
 
 def commute(held, place):
-    pair = commuted(held.row[place], held.row[place + 1])
-    if pair is None:
+    after = commuted_at(held.row, place)
+    if after is None:
         return [DO_NOT_COMMUTE]
-    held.row = held.row[:place] + list(pair) + held.row[place + 2:]
-    return pair[0].as_numbers() + pair[1].as_numbers()
+    held.row = after
+    return after[place].as_numbers() + after[place + 1].as_numbers()
 
 
 def why(held, place):
@@ -67,20 +72,73 @@ def why(held, place):
 
 
 def front(held, place):
-    brought = brought_ahead(held.row, place)
+    brought = brought_ahead(held.row, place, 0)
     if brought[1] > 0:
         return [0, place - brought[1]]
     held.row = brought[0]
     return [1] + held.row[0].as_numbers()
 
 
+def back(held, place):
+    brought = brought_behind(held.row, place)
+    if brought[1] < len(held.row) - 1:
+        return [0, brought[1] - place]
+    held.row = brought[0]
+    return [1] + held.row[-1].as_numbers()
+
+
+def needs(held, place):
+    places = needed_places(held.row, place)
+    return [len(places)] + places
+
+
+def needed_by(held, place):
+    places = [at for at in range(place + 1, len(held.row)) if place in needed_places(held.row, at)]
+    return [len(places)] + places
+
+
+def without(held, place):
+    answer = back(held, place)
+    if answer[0] == 0:
+        return answer
+    held.row = held.row[:-1]
+    return [1, len(held.row)]
+
+
+def three(held, place):
+    numbers = []
+    for steps in three_commuted(held.row[place:place + 3]):
+        if steps is None:
+            numbers.append(0)
+        else:
+            numbers.append(1)
+            for step in steps:
+                numbers.extend(step.as_numbers())
+    return numbers
+
+
+def past(held, place):
+    after = rest_brought_ahead(held.row, place)
+    if after is None:
+        return [0]
+    held.row = after
+    return [1, len(after) - place]
+
+
+def turn(held):
+    held.ground = row_applied(held.ground, held.row)
+    held.row = row_turned(held.row)
+    return tree_numbers(held.ground)
+
+
 TREE_CALL = 0
 LIST_CALLS = {0: tell_tree, 1: tell_step}
-PLAIN_CALLS = {2: shown, 3: outcome}
-PLACE_CALLS = {4: commute, 5: why, 6: front}
+PLAIN_CALLS = {2: shown, 3: outcome, 13: turn}
+PLACE_CALLS = {
+    4: commute, 5: why, 6: front, 7: back, 8: needs, 9: needed_by, 10: without, 11: three, 12: past}
 
-# commute and why ask for a next step: by call, how many must stand behind the one at the place.
-STEPS_BEHIND = {4: 1, 5: 1}
+# commute and why ask for a next step, three for two: by call, how many must stand behind the one at the place.
+STEPS_BEHIND = {4: 1, 5: 1, 11: 2}
 
 
 def answer_call(held, call, handed):

@@ -2,7 +2,11 @@
 
 from stepscommuted.rows import answers
 
-NUMBERS = {"tree": 0, "step": 1, "shown": 2, "outcome": 3, "commute": 4, "why": 5, "front": 6}
+NUMBERS = {
+    "tree": 0, "step": 1, "shown": 2, "outcome": 3, "commute": 4, "why": 5, "front": 6, "back": 7, "needs": 8,
+    "neededby": 9, "without": 10, "three": 11, "past": 12, "turn": 13}
+
+WITH_PLACE = ("commute", "why", "front", "back", "needs", "neededby", "without", "three", "past")
 
 LARGEST = 10 ** 18
 

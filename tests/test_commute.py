@@ -1,8 +1,8 @@
-"""Point 3: commute and why."""
+"""Point 3: commute and why, where there are two steps."""
 
 import unittest
 
-from asking import LARGEST, ask, last, row_on
+from asking import ask, last, row_on
 
 TREE = [2, 0, 8, 1, 2, 3, 4, 5, 6, 7, 8, 4, 0]
 
@@ -85,9 +85,6 @@ NOT_COMMUTING = [
     ([4, 0, 1], [4, 4, 0], 3),
 ]
 
-PLACES_OF_NO_STEP = (-1, -2, -3, -LARGEST, 3, 4, 16, LARGEST)
-
-
 class CommuteTest(unittest.TestCase):
     def test_steps_that_commute(self):
         for first, second, ahead, behind in COMMUTING:
@@ -141,32 +138,3 @@ class CommuteTest(unittest.TestCase):
             [0, 0, 5, 1, 6, 0, 4, 0, 1],
             [3, 0, 0, 5, 1, 6, 0, 4, 0, 1, 0, 1, 0, 1, 1, 0],
             [2, 1, 6, 2, 3, 4, 5, 7, 8, 4, 0]])
-
-
-class NoSuchStepTest(unittest.TestCase):
-    def test_no_such_step(self):
-        calls = row_on(TREE, [2, 9], [4, 0, 1], [3, 4])
-        for name in ("commute", "why", "front"):
-            for place in PLACES_OF_NO_STEP:
-                with self.subTest(name=name, place=place):
-                    found = ask(*calls, (name, place), ("shown",))[4:]
-                    self.assertEqual(found, [[-2], [3, 2, 9, 4, 0, 1, 3, 4]])
-
-    def test_no_next_step(self):
-        for steps in ([[2, 9]], [[2, 9], [4, 0, 1], [3, 4]]):
-            for name in ("commute", "why"):
-                with self.subTest(name=name, steps=steps):
-                    self.assertEqual(last(*row_on(TREE, *steps), (name, len(steps) - 1)), [-2])
-
-    def test_front_of_the_last_step_needs_no_next_one(self):
-        self.assertEqual(last(*row_on(TREE, [2, 9], [3, 4]), ("front", 1)), [1, 3, 4])
-
-    def test_an_empty_row_has_no_step(self):
-        for name in ("commute", "why", "front"):
-            for place in (0,) + PLACES_OF_NO_STEP:
-                with self.subTest(name=name, place=place):
-                    self.assertEqual(ask(("tree", TREE), (name, place)), [[2], [-2]])
-
-    def test_no_next_step_is_looked_at_ahead_of_not_commuting(self):
-        calls = row_on(TREE, [2, 9], [3, 9])
-        self.assertEqual(ask(*calls, ("commute", 0), ("commute", 1), ("commute", -1))[3:], [[-7], [-2], [-2]])

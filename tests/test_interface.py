@@ -14,13 +14,32 @@ EXAMPLE = [
     ("step", [0, 1, 2, 1, 7, 1, 8]),
     ("outcome",),
     ("commute", 0),
+    ("needs", 4),
+    ("neededby", 1),
+    ("without", 1),
+    ("back", 0),
+    ("three", 0),
+    ("turn",),
+    ("outcome",),
 ]
 
 EXAMPLE_ANSWERS = [
     [1], [0], [1], [2], [3], [4],
     [1, 1, 5, 9, 9, 8, 3, 5],
     [0, 0, 3, 1, 4, 0, 0, 0, 0, 1, 1, 2, 9, 9],
+    [1, 1],
+    [1, 4],
+    [0, 2],
+    [1, 0, 1, 4, 1, 4, 0],
+    [1, 4, 0, 1, 1, 1, 2, 7, 0, 1, 0, 1, 1, 2, 9, 9] * 2,
+    [1, 1, 5, 9, 9, 8, 3, 5],
+    [1, 0, 5, 1, 2, 3, 4, 5],
 ]
+
+# What else is asked behind the Example, refusals among it.
+MORE = [
+    ("why", 0), ("why", 9), ("front", 1), ("past", 4), ("without", 4), ("shown",), ("tree", [1, 0]), ("step", [2]),
+    ("step", [2, 5]), ("commute", 7), ("turn",)]
 
 
 class ExampleTest(unittest.TestCase):
@@ -33,20 +52,32 @@ class ExampleTest(unittest.TestCase):
             [1, 1, 1, 0, 1, 1, 8, 1, 0, 5, 9, 9, 2, 3, 5, 14, 0, 0, 3, 1, 4, 0, 0, 0, 0, 1, 1, 2, 9, 9])
 
     def test_the_example_goes_on(self):
-        found = ask(*EXAMPLE, ("why", 3), ("front", 4), ("front", 3), ("shown",), ("outcome",))[8:]
+        # From ahead of its turn.
+        found = ask(*EXAMPLE[:13], ("why", 1), ("front", 2), ("past", 1), ("shown",), ("turn",), ("shown",))[13:]
         self.assertEqual(found, [
             [0],
-            [0, 2],
             [1, 4, 0, 1],
-            [5, 4, 0, 1, 0, 1, 3, 1, 4, 0, 0, 1, 0, 1, 1, 2, 9, 9, 1, 1, 2, 7, 0, 1, 2, 1, 7, 1, 8],
-            [1, 1, 5, 9, 9, 8, 3, 5]])
+            [1, 4],
+            [5, 0, 0, 0, 1, 1, 2, 9, 9, 1, 0, 2, 7, 0, 0, 2, 1, 7, 1, 8, 0, 0, 4, 1, 4, 0, 4, 0, 1],
+            [1, 1, 5, 9, 9, 8, 3, 5],
+            [5, 4, 1, 0, 0, 0, 4, 0, 1, 4, 0, 0, 2, 1, 8, 1, 7, 1, 0, 2, 7, 0, 0, 0, 2, 9, 9, 1, 1]])
 
 
 class NumbersTest(unittest.TestCase):
     def test_answers_are_a_list_of_whole_numbers(self):
-        answered = answers(all_numbers(EXAMPLE + [("why", 0), ("why", 9), ("front", 1), ("shown",)]))
+        answered = answers(all_numbers(EXAMPLE + MORE))
         self.assertIs(answered.__class__, list)
         self.assertEqual({number.__class__ for number in answered}, {int})
+
+    def test_each_call_by_its_number(self):
+        told = [0, 3, 1, 0, 0, 1, 2, 2, 9, 1, 4, 1, 0, 5, 6, 1, 2, 3, 9]
+        for asked, answer in (
+                ([2], [9, 3, 2, 9, 1, 0, 5, 6, 3, 9]), ([3], [3, 1, 0, 0]), ([4, 0], [6, 1, 0, 5, 6, 2, 9]),
+                ([5, 0], [1, 0]), ([6, 1], [5, 1, 1, 0, 5, 6]), ([7, 1], [5, 1, 1, 0, 5, 6]), ([8, 2], [2, 1, 0]),
+                ([9, 0], [2, 1, 2]), ([10, 1], [2, 1, 2]), ([11, 0], [2, 0, 0]), ([12, 2], [1, 0]),
+                ([13], [3, 1, 0, 0])):
+            with self.subTest(asked=asked):
+                self.assertEqual(answers(told + asked), [1, 1, 1, 0, 1, 1, 1, 2] + answer)
 
     def test_a_refusal_is_one_number(self):
         self.assertEqual(answers([3]), [1, -8])
@@ -63,7 +94,7 @@ class NumbersTest(unittest.TestCase):
 
 class NothingKeptTest(unittest.TestCase):
     def test_the_list_handed_in_is_as_it_was(self):
-        handed = all_numbers(EXAMPLE + [("front", 3), ("tree", [1, 0]), ("step", [2, 5]), ("commute", 7), ("shown",)])
+        handed = all_numbers(EXAMPLE + MORE)
         before = list(handed)
         answers(handed)
         self.assertEqual(handed, before)
@@ -76,11 +107,12 @@ class NothingKeptTest(unittest.TestCase):
             append = clear = extend = insert = pop = remove = reverse = sort = refuse
             __setitem__ = __delitem__ = __iadd__ = __imul__ = refuse
 
-        self.assertEqual(answers(Unchanging(all_numbers(EXAMPLE))), answers(all_numbers(EXAMPLE)))
+        self.assertEqual(answers(Unchanging(all_numbers(EXAMPLE + MORE))), answers(all_numbers(EXAMPLE + MORE)))
 
     def test_two_lists_do_not_bear_on_one_another(self):
         first = answers(all_numbers(EXAMPLE))
         self.assertEqual(answers([2]), [1, -8])
+        self.assertEqual(answers([13]), [1, -8])
         self.assertEqual(ask(("tree", [1, 0, 0]), ("shown",), ("outcome",)), [[1], [0], [1, 0, 0]])
         self.assertEqual(answers(all_numbers(EXAMPLE)), first)
 

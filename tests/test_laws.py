@@ -1,11 +1,13 @@
-"""What the words say of all steps, tried on every pair of steps out of a small world."""
+"""What the words say of all steps, tried on every pair of steps out of a small world, and on threes of fewer."""
 
+import itertools
 import unittest
 
 from asking import ask
 from stepscommuted.commuting import commuted
 from stepscommuted.reading import read_step
 from stepscommuted.steps import row_applied, row_turned
+from stepscommuted.through import three_commuted
 from stepscommuted.trees import read_tree, tree_numbers
 
 TREES = [[2, 0, 3, 1, 2, 1, 1, 0], [2, 0, 5, 1, 2, 3, 1, 2, 2, 1, 1]]
@@ -29,6 +31,11 @@ def others():
 
 
 STEPS = [read_step(numbers) for numbers in hunks() + swaps() + others()]
+
+FEWER_STEPS = [read_step(numbers) for numbers in [
+    [0, 0, 0, 0, 1, 1], [0, 0, 1, 1, 1, 0], [0, 0, 2, 1, 1, 1, 2], [0, 0, 3, 0, 2, 1, 1], [0, 0, 4, 2, 1, 1, 0],
+    [0, 0, 6, 1, 2, 1, 1], [0, 1, 0, 1, 1, 0], [0, 1, 2, 0, 1, 1], [1, 0, 1, 2], [1, 0, 3, 4], [1, 0, 2, 3],
+    [1, 1, 1, 2], [2, 0], [2, 1], [3, 0], [3, 1], [4, 0, 1], [4, 1, 0], [4, 0, 2], [4, 2, 1]]]
 
 
 def fitting(tree):
@@ -77,6 +84,14 @@ class LawsTest(unittest.TestCase):
             self.assertTrue(back[1].fits(back[0].applied(outcome)))
             self.assertEqual(row_applied(outcome, back), tree)
             self.assertEqual(numbers_of(row_turned(back)), numbers_of(row))
+
+    def test_three_steps_come_out_alike_in_both_ways_or_in_neither(self):
+        seen = {True: 0, False: 0}
+        for steps in itertools.product(FEWER_STEPS, repeat=3):
+            one, other = [None if way is None else numbers_of(way) for way in three_commuted(list(steps))]
+            self.assertEqual(one, other, numbers_of(steps))
+            seen[one is None] += 1
+        self.assertGreater(min(seen.values()), 1000, seen)
 
     def test_each_kind_turned_round(self):
         turned = [

@@ -2,7 +2,7 @@
 
 import unittest
 
-from asking import LARGEST, ask, last, row_on
+from asking import LARGEST, WITH_PLACE, ask, last, row_on
 
 TREE = [2, 0, 5, 1, 2, 3, 2, 1, 4, 0]
 
@@ -107,15 +107,20 @@ SIXTEEN = [[2, 9], [3, 9]] * 8
 
 class NoTreeTest(unittest.TestCase):
     def test_each_call_but_tree_is_refused(self):
-        for call in (("step", [2, 0]), ("step", []), ("step", [0] * 30), ("shown",), ("outcome",)):
+        for call in (("step", [2, 0]), ("step", []), ("step", [0] * 30), ("shown",), ("outcome",), ("turn",)):
             with self.subTest(call=call):
                 self.assertEqual(ask(call), [[-8]])
 
     def test_each_call_with_a_place_is_refused_whatever_the_place(self):
-        for name in ("commute", "why", "front"):
-            for place in (0, 1, -1, 16, LARGEST, -LARGEST):
+        for name in WITH_PLACE:
+            for place in (0, 1, -1, 15, 16, LARGEST, -LARGEST):
                 with self.subTest(name=name, place=place):
                     self.assertEqual(ask((name, place)), [[-8]])
+
+    def test_a_refused_tree_is_no_tree(self):
+        for call in [("shown",), ("outcome",), ("turn",)] + [(name, 0) for name in WITH_PLACE]:
+            with self.subTest(call=call):
+                self.assertEqual(ask(("tree", [1, 0]), call), [[-1], [-8]])
 
     def test_a_step_refused_ahead_of_the_tree_is_not_in_the_row(self):
         self.assertEqual(ask(("step", [2, 0]), ("tree", [0]), ("shown",), ("outcome",)), [[-8], [0], [0], [0]])
